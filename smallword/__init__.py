@@ -1,0 +1,1 @@
+"""Smallword: wishes, worlds, and papers that a small checker reads."""
