@@ -16,6 +16,7 @@ HEADS = ["not", "all", "any", "like", "most", "least", "below", "above", "equal"
 TERMS = [
     (A, "a"), (("name", "abcdefgh"), "abcdefgh"), (FA, "(f a)"), (call("f", A, B, C), "(f a b c)"),
     (call("f", FA, call("g", FA, B)), "(f (f a) (g (f a) b))"), (call("not", ("name", "all")), "(not all)"),
+    (call("fx", ("name", "ax"), ("name", "xx")), "(fx ax xx)"),
 ]
 WISHES = [
     (P, "p"), (("not", P), "(not p)"), (("not", ("not", P)), "(not (not p))"),

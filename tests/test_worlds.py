@@ -129,6 +129,7 @@ class Looked(unittest.TestCase):
     def test_wrong_calls(self):
         keys = [
             "f", ("f",), ("f", ()), ("f", ONE), ("f", (ONE, ONE, ONE, ONE)), ("f", ((2, 2),)), ("f", ((1, 0),)),
+            ("f", (ONE, (2, 2))), ("f", (ONE, ONE, A)), ("f", ((2, 2), ONE)),
             ("f", (1,)), ("f", ((True, 1),)), ("f", ((1, True),)), ("f", ("1",)), ("f", (A,)), ("F", (ONE,)),
             ("", (ONE,)), ("abcdefghi", (ONE,)), (1, (ONE,)), ("f", (ONE,), ONE), ((ONE,), "f"), ("f", None), ("f", "ab"),
             ("call", "f", (ONE,)), None, 1, (),
