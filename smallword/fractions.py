@@ -23,7 +23,12 @@ def fraction(top, bottom):
 
 
 def plus(one, other):
-    return fraction(one[0] * other[1] + other[0] * one[1], one[1] * other[1])
+    # What is made of both may be long, so divisors are sought among shorter numbers:
+    # the new top can share with the new bottom only what both bottoms share.
+    shared = common_divisor(one[1], other[1])
+    top = one[0] * (other[1] // shared) + other[0] * (one[1] // shared)
+    divisor = common_divisor(top, shared)
+    return (top // divisor, one[1] // shared * (other[1] // divisor))
 
 
 def minus(one, other):
@@ -31,14 +36,17 @@ def minus(one, other):
 
 
 def times(one, other):
-    return fraction(one[0] * other[0], one[1] * other[1])
+    # Each is in lowest terms, so a top can share with the other's bottom alone.
+    first = common_divisor(one[0], other[1])
+    second = common_divisor(other[0], one[1])
+    return (one[0] // first * (other[0] // second), one[1] // second * (other[1] // first))
 
 
 def parted(one, other):
     """The first divided by the second; NoShare where that is 0."""
     if other == ZERO:
         raise NoShare("nothing is parted by 0")
-    return fraction(one[0] * other[1], one[1] * other[0])
+    return times(one, fraction(other[1], other[0]))
 
 
 def contrary(one):

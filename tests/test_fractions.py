@@ -70,6 +70,18 @@ class Reckoned(unittest.TestCase):
             self.assertEqual(sign_of(one), sign)
             self.assertIs(type(sign_of(one)), int)
 
+    def test_each_two_small_ones(self):
+        small = sorted({Fraction(top, bottom) for top in range(-6, 7) for bottom in range(1, 13)})
+        for one in small:
+            for other in small:
+                pair = [part.as_integer_ratio() for part in (one, other)]
+                self.assertEqual(plus(*pair), (one + other).as_integer_ratio())
+                self.assertEqual(minus(*pair), (one - other).as_integer_ratio())
+                self.assertEqual(times(*pair), (one * other).as_integer_ratio())
+                self.assertIs(is_less(*pair), one < other)
+                if other:
+                    self.assertEqual(parted(*pair), (one / other).as_integer_ratio())
+
     def test_against_exact_reckoning(self):
         chance = random.Random(1)
         limits = (3, 12, 10 ** 6, 10 ** 60 - 1)
