@@ -1,4 +1,9 @@
-"""What several tests share: plain things, and ways to spoil them."""
+"""What several tests share: plain things, and ways to spoil them; papers by chance."""
+
+import itertools
+
+from smallword.checker import row_by
+from smallword.rows import lit
 
 A, B, C = ("name", "a"), ("name", "b"), ("name", "c")
 ONE, HALF, ZERO = (1, 1), (1, 2), (0, 1)
@@ -27,3 +32,75 @@ def spoilt(thing):
         yield from ("", thing.upper(), thing + "1", thing + "abcdefgh", thing + " ", 5, None, (thing,), [thing])
     else:
         yield from (True, False, None, str(thing), (thing,), [thing])
+
+
+class PaperMaker:
+    """Wishes that no world keeps, and a paper of them with many a needless step, by a source of chance."""
+
+    def __init__(self, chance, atoms):
+        self.chance = chance
+        self.atoms = atoms
+        self.wishes = []
+        self.paper = []
+        self.rows = []
+        for truths in itertools.product((True, False), repeat=len(atoms)):
+            if not any([self.falls(wish, dict(zip(atoms, truths))) for wish in self.wishes]):
+                self.wishes.append(self.wish_against(list(zip(atoms, truths))))
+        chance.shuffle(self.wishes)
+
+    def wish_against(self, literals):
+        """An either that falls by some of these literals, which all hold at once."""
+        some = self.chance.sample(literals, self.chance.randint((len(literals) + 1) // 2, len(literals)))
+        return ("either", tuple([("not", atom) if truth else atom for atom, truth in some]))
+
+    def falls(self, wish, truths):
+        literals = [lit(inner, True) for inner in wish[1]]
+        return all([truths.get(atom) == (not truth) for atom, truth in literals])
+
+    def lay(self, step):
+        """The place of a step that is laid behind the paper."""
+        self.rows.append(row_by(self.wishes, self.rows, step))
+        self.paper.append(step)
+        return len(self.paper) - 1
+
+    def led(self, truths):
+        """The place of a row that falls by these truths."""
+        fallen = [place for place, wish in enumerate(self.wishes) if self.falls(wish, truths)]
+        if fallen:
+            place = self.chance.choice(fallen)
+            wish = self.wishes[place]
+            last = self.lay(("open", wish, len(wish[1])))
+            return self.lay(("resolve", self.lay(("wish", place)), last, wish))
+        atom = self.chance.choice([atom for atom in self.atoms if atom not in truths])
+        one = self.led({**truths, atom: False})
+        other = self.led({**truths, atom: True})
+        one = self.widened(one, (atom, True))
+        if (atom, True) not in self.rows[one]:
+            return one
+        other = self.widened(other, (atom, False))
+        if (atom, False) not in self.rows[other]:
+            return other
+        return self.lay(("resolve", one, other, atom))
+
+    def widened(self, place, literal):
+        """The place of a row that has a literal beside those of another row, or by chance that one's place."""
+        row = self.rows[place]
+        if literal in row or not row or self.chance.random() < 0.5:
+            return place
+        first = self.chance.choice(row)
+        either = ("either", tuple([atom if truth else ("not", atom) for atom, truth in (first, literal)]))
+        steps = [place, self.lay(("open", either, 0))]
+        taken = self.lay(("resolve",) + tuple(steps if first[1] else steps[::-1]) + (first[0],))
+        return self.lay(("resolve", taken, self.lay(("open", either, 2)), either))
+
+
+def some_paper(chance, atoms):
+    """A tuple of wishes and a paper that is let by, over these atoms taken as if they had nothing to do together."""
+    maker = PaperMaker(chance, atoms)
+    for each in range(chance.randint(0, 2)):
+        maker.led({})
+    place = maker.led({})
+    while place != len(maker.paper) - 1:
+        # What led to () may lie ahead of steps that were laid for nothing.
+        place = maker.led({})
+    return maker.wishes, maker.paper
