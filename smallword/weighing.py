@@ -31,7 +31,7 @@ def bears(bounds, weights):
     """Whether weights show that no numbers meet the bounds."""
     places = [place for place, weight in weights]
     rising = all([one < other for one, other in zip(places, places[1:])])
-    if not places or not rising or any([sign_of(weight) <= 0 for place, weight in weights]):
+    if not rising or any([sign_of(weight) <= 0 for place, weight in weights]):
         return False
     pairs, total = added(bounds, weights)
     if pairs != () or sign_of(total) > 0:

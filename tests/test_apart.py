@@ -92,6 +92,24 @@ class Apart(unittest.TestCase):
                        [(DOWN, ZERO, False), (UP, (1, 1000000), True)]):
             self.assertEqual(self.looked_over(bounds, [UP, sum_times(UP, (-3, 2))])[0], "numbers")
 
+    def test_boxes_far_from_0(self):
+        terms = [("name", name) for name in "abcdef"]
+        sums = [less_sum(one, other) for place, one in enumerate(terms) for other in terms[:place]]
+        for low, high in ((1, 2), (-2, -1), (999998, 999999)):
+            for strict in (True, False):
+                upper = [(((term, ONE),), (high, 1), strict) for term in terms]
+                lower = [(((term, (-1, 1)),), (-low, 1), strict) for term in terms]
+                for bounds in (upper + lower, lower + upper, upper, lower):
+                    self.assertEqual(self.looked_over(bounds, sums)[0], "numbers")
+
+    def test_no_sum_becomes_0_on_the_way_of_another_one(self):
+        # c is 1, and a may go from 0 up, to 1 or for ever: so a less some parts of c is 0 on its way.
+        fixed = [(((C, ONE),), ONE, False), (((C, (-1, 1)),), (-1, 1), False), (DOWN, ZERO, False)]
+        others = [sum_of([(A, ONE), (C, fraction(-top, bottom))]) for top in (1, 2, 3) for bottom in (1, 2, 3, 4, 5)]
+        for bounds in (fixed, fixed + [(UP, ONE, False)], fixed + [(UP, ONE, True)], fixed + [(UP, (3, 1), True)]):
+            for sums in ([UP] + others, others + [UP], others[::-1] + [DOWN]):
+                self.assertEqual(self.looked_over(bounds, sums)[0], "numbers")
+
     def test_terms_that_no_bound_has(self):
         told = self.looked_over([(UP, ONE, False)], [less_sum(A, B), less_sum(B, C), ((DEEP, ONE),), ((C, ONE),)])
         self.assertEqual(told[0], "numbers")

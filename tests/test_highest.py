@@ -83,7 +83,7 @@ class Highest(unittest.TestCase):
         self.assertEqual(self.value([(UP, ONE, False)] * 3, UP), (ONE, True))
 
     def test_ways_that_go_on_for_ever(self):
-        for bounds, asked in (([], UP), ([(DOWN, ONE, False)], UP), ([(UP, ONE, True)], DOWN),
+        for bounds, asked in (([], UP), ([], DOWN), ([(DOWN, ONE, False)], UP), ([(UP, ONE, True)], DOWN),
                               ([(UP, ONE, False)], ((A, ONE), (B, ONE))), ([(UP, ONE, False)], ((B, (-2, 7)),)),
                               ([(less_sum(A, B), (-1, 1), True)], AB),
                               ([(less_sum(A, B), ZERO, False), (less_sum(B, A), ZERO, False)], UP),
