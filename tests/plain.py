@@ -104,3 +104,46 @@ def some_paper(chance, atoms):
         # What led to () may lie ahead of steps that were laid for nothing.
         place = maker.led({})
     return maker.wishes, maker.paper
+
+
+def name(letters):
+    return ("name", letters)
+
+
+def within_calls(term, many, function="f"):
+    """A term within so many calls of one function."""
+    for each in range(many):
+        term = call(function, term)
+    return term
+
+
+def some_term(chance, names, depth):
+    """A term by chance, calls of f and g at most so deep."""
+    if depth == 0 or chance.random() < 0.4:
+        return name(chance.choice(names))
+    return call(chance.choice("fg"), *[some_term(chance, names, depth - 1) for each in range(chance.randint(1, 2))])
+
+
+def parts_plainly(terms):
+    """All parts of terms, by the words of the document."""
+    found = []
+    for term in terms:
+        found.append(term)
+        if term[0] == "call":
+            found += parts_plainly(term[2])
+    return sorted(set(found))
+
+
+def same_plainly(likes, terms):
+    """The pairs that are the same by likes among the parts of these and of terms, by the words of the document."""
+    parts = parts_plainly([term for pair in likes for term in pair] + list(terms))
+    same = {(part, part) for part in parts} | set(likes) | {(other, one) for one, other in likes}
+    while True:
+        fresh = {(one, last) for one, middle in same for beside, last in same if middle == beside}
+        for one, other in itertools.product(parts, repeat=2):
+            if one[0] == other[0] == "call" and one[1] == other[1] and len(one[2]) == len(other[2]):
+                if all(pair in same for pair in zip(one[2], other[2])):
+                    fresh.add((one, other))
+        if fresh <= same:
+            return same
+        same |= fresh
