@@ -46,7 +46,8 @@ def way_between(bonds, one, other):
     came = {one: None}
     waiting = [one]
     while waiting:
-        for bond in beside.get(waiting.pop(), []):
+        part = waiting.pop()
+        for bond in beside.get(part, []):
             if bond[1] not in came:
                 came[bond[1]] = bond
                 waiting.append(bond[1])

@@ -38,7 +38,7 @@ def together(literals):
     case = Case(literals)
     while True:
         case.roots = joined(case.family, bonds_of(case.family, case.likes))[0]
-        if is_broken_by_likes(case):
+        if lay_broken(case):
             return ("steps", cut(case.steps))
         firsts = first_terms(case)
         pairs = [(one, other) for at, one in enumerate(firsts) for other in firsts[:at]]
@@ -61,7 +61,7 @@ def are_joined(case, one, other):
     return root_of(case, one) == root_of(case, other)
 
 
-def is_broken_by_likes(case):
+def lay_broken(case):
     """Whether likes tell the contrary of a given literal: then steps are laid whose last row tells it."""
     for one, other in case.unlikes:
         if are_joined(case, one, other):
