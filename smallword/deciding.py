@@ -65,7 +65,6 @@ def decided(wishes):
 
 def needed_literals(question, standing):
     """Literals of atoms, as truths have them, by which alone all wishes hold: but for flags, none that is needless."""
-    standing = list(standing)
     framed = {literal: True for literal, inner, turned in question.frames}
     literals = []
     for number, thing in enumerate(question.things):

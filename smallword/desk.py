@@ -88,5 +88,5 @@ class Desk:
         word, end, rest = row.partition("\n")
         if end == "" or word not in LINE_DEEDS:
             raise NoLine("this row asks nothing")
-        deed = LINE_DEEDS[word]
-        return deed(self.bench, rest.split("\n") if rest else [])
+        line_deed = LINE_DEEDS[word]
+        return line_deed(self.bench, rest.split("\n") if rest else [])

@@ -130,7 +130,8 @@ def free_place(row, standing):
 
 def make_sure(search):
     """Learn rows of the literals that are true without any try, each alone."""
-    for literal in search.trail[len(search.sure):]:
+    fresh = search.trail[len(search.sure):]
+    for literal in fresh:
         cause = search.causes[literal >> 1]
         others = [other for other in search.rows[cause] if other != literal]
         if others:

@@ -56,10 +56,12 @@ def within(term):
 
 def gather_terms(term, found):
     """Put the terms within a term into a dict by their texts."""
-    for inner in terms_right_in(term):
-        gather_terms(inner, found)
     # Terms may lie too deep for keys, so their texts stand for them.
-    found.setdefault(shown_term(term), term)
+    text = shown_term(term)
+    if text not in found:
+        for inner in terms_right_in(term):
+            gather_terms(inner, found)
+        found[text] = term
 
 
 def depth_of(term):

@@ -75,10 +75,12 @@ def parts_of(wish):
 
 def gather_parts(wish, found):
     """Put the parts of a wish into a dict by their texts."""
-    for inner in wishes_right_in(wish):
-        gather_parts(inner, found)
     # Wishes may lie too deep for keys, so their texts stand for them.
-    found.setdefault(shown_wish(wish), wish)
+    text = shown_wish(wish)
+    if text not in found:
+        for inner in wishes_right_in(wish):
+            gather_parts(inner, found)
+        found[text] = wish
 
 
 def atoms_in(wish):

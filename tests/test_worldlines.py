@@ -121,7 +121,7 @@ class Read(unittest.TestCase):
                 "call f 1 = 2 3", "call f 1 2 3 4 = 5", "call f 1 == 2", "call f 1 = = 2", "call f 1 = 2 = 3",
                 "call f = 1 = 2", "call f 2/2 = 1", "call f 1 = 2/2", "call f a = 1", "call f 1 = a", "call = 1 = 2",
                 "call abcdefghi 1 = 1", "call f 1=2", "call f 1 2 3", "call f 1 2 3 =", "call f (1) = 2", "1 = 2",
-                "call f , 1 = 2", "call 1 1 = 2", "call f 1 = -0", "call f 00 = 1"):
+                "call f , 1 = 2", "call 1 1 = 2", "calls f 1 = 2", "name f 1 = 2", "flag f 1 = 2", "f f 1 = 2", "call f 1 = -0", "call f 00 = 1"):
             with self.subTest(line):
                 self.refused([line], 0)
                 self.refused(["flag z", "name z 1", line, "what"], 2)
