@@ -6,7 +6,7 @@ Literals are whole numbers here: two for each thing, that of its being True, eve
 # How many failures there are between two fresh starts, at first.
 FIRST_PATIENCE = 64
 # Beyond this the scores of things are made smaller, so that reckoning with them stays quick.
-HIGHEST_SCORE = 1 << 60
+HIGHEST_SCORE = 1000000000000000000
 
 
 class Search:
